@@ -1,0 +1,1 @@
+"""Waithouse: points in time with least and greatest gaps."""
