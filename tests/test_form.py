@@ -1,6 +1,7 @@
 """The form of the code (LANGUAGE.md), and of promise 2 that nothing hangs on a clock, chance or files.
 
-Not every rule can be seen by a script; those that can be seen cheaply are looked for here.
+Only some of the rules are looked for here (L2, L4 to L8, L10, L12, L14, L15, L17, L20, L25, and of most of them
+a part alone); a module that passes may still break others, which a reader must see.
 """
 
 import ast
