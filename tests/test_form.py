@@ -1,6 +1,6 @@
 """The form of the code (LANGUAGE.md), and of promise 2 that nothing hangs on a clock, chance or files.
 
-Only some of the rules are looked for here (L2, L4 to L8, L10, L12, L14, L15, L17, L20, L25, and of most of them
+Only some of the rules are looked for here (L2, L4 to L8, L10, L12, L14 to L17, L20, L25, and of most of them
 a part alone); a module that passes may still break others, which a reader must see.
 """
 
@@ -124,6 +124,8 @@ def node_faults(node):
         faults.append(("L6", line))
     if kind == "Constant" and isinstance(node.value, (float, complex, bytes)):
         faults.append(("L7", line))
+    if kind == "ListComp" and (len(node.generators) > 1 or len(node.generators[0].ifs) > 1):
+        faults.append(("L7", line))
     if kind == "Compare" and any(isinstance(sign, (ast.Is, ast.IsNot)) for sign in node.ops):
         if not any(is_plain(side) for side in [node.left] + node.comparators):
             faults.append(("L20", line))
@@ -156,6 +158,33 @@ def faults_of(text, own_methods=frozenset()):
     return faults + method_faults(tree, methods_of(tree) | own_methods)
 
 
+def drawn_from(tree):
+    """For each file of the package that a module draws from, the names that it takes."""
+    found = {}
+    for node in tree.body:
+        if isinstance(node, ast.ImportFrom):
+            found.setdefault(node.module.removeprefix("waithouse."), []).extend(part.name for part in node.names)
+    return found
+
+
+def defined_in(tree):
+    return [part.name for part in tree.body if isinstance(part, (ast.FunctionDef, ast.ClassDef))]
+
+
+def import_faults(trees):
+    """Modules that take a name from a file that does not define it, or that draw from one another."""
+    faults = []
+    for module, tree in trees.items():
+        for source, names in drawn_from(tree).items():
+            faults += [(module, name) for name in names if name not in defined_in(trees[source])]
+        reached = list(drawn_from(tree))
+        for source in reached:
+            reached += [other for other in drawn_from(trees[source]) if other not in reached]
+        if module in reached:
+            faults.append((module, module))
+    return faults
+
+
 def package_files():
     return sorted(path for path in PACKAGE.rglob("*") if "__pycache__" not in path.parts and path.is_file())
 
@@ -177,6 +206,19 @@ class Form(unittest.TestCase):
             with self.subTest(name=name):
                 self.assertEqual(faults_of(text, own_methods), [])
 
+    def test_names_are_drawn_from_the_file_that_defines_them_and_never_in_a_round(self):
+        trees = {path.stem: ast.parse(path.read_text(encoding="utf-8")) for path in package_files()}
+        self.assertEqual(import_faults(trees), [])
+
+    def test_broken_imports_are_seen(self):
+        one = ast.parse("from waithouse.two import g\ndef f():\n    return g()\n")
+        two = ast.parse("from waithouse.one import f\ndef g():\n    return f()\n")
+        three = ast.parse("from waithouse.one import g\n")
+        plain = ast.parse("def g():\n    return 1\n")
+        self.assertEqual(import_faults({"one": one, "two": plain}), [])
+        self.assertEqual(import_faults({"one": one, "two": two}), [("one", "one"), ("two", "two")])
+        self.assertEqual(import_faults({"one": one, "two": plain, "three": three}), [("three", "g")])
+
     def test_broken_rules_are_seen(self):
         samples = (
             ("import time\n", "L2/L16"),
@@ -189,6 +231,8 @@ class Form(unittest.TestCase):
             ("def f(x):\n    return x / 2\n", "L6/L7"),
             ("X = 1.5\n", "L7"),
             ("def f(x):\n    return sum(y for y in x)\n", "L6/L7"),
+            ("def f(x):\n    return [z for y in x for z in y]\n", "L7"),
+            ("def f(x):\n    return [y for y in x if y if y > 1]\n", "L7"),
             ("def f(x):\n    return print(x)\n", "L8"),
             ("def f(x):\n    return open(x)\n", "L17"),
             ("def f():\n" + "    f()\n" * 40, "L10"),
