@@ -1,4 +1,4 @@
-"""What the tests of tables, rings, picks and spans share: drawn bounds, and plain ways to find what is asked."""
+"""What the tests share: drawn bounds, and plain ways to find what is asked, unlike those of the program."""
 
 import copy
 import itertools
@@ -30,6 +30,43 @@ def shortest_sums(count, bounds):
         if one is not None and other is not None and (table[a][b] is None or one + other < table[a][b]):
             table[a][b] = one + other
     return None if any(table[a][a] < 0 for a in range(count)) else table
+
+
+def pinned(setting):
+    """The bounds between each two points that have a time which keep them as far apart as their times are."""
+    fixed = [x for x in range(len(setting)) if setting[x] is not None]
+    return [(a, b, setting[b] - setting[a]) for a, b in itertools.product(fixed, repeat=2)]
+
+
+def goes(bounds, setting):
+    """Whether some schedule keeps the bounds and has the setting's times."""
+    # Schedules that keep bounds keep them when moved, so only the times from set point to set point matter.
+    return shortest_sums(len(setting), bounds + pinned(setting)) is not None
+
+
+def drawn_between(draw, low, high):
+    """A time from low to high, where None sets no end: an end itself, a time by it, or any between."""
+    if low is None and high is None:
+        return draw.choice((0, -7, BIG, draw.randint(-10 ** 6, 10 ** 6)))
+    if high is None:
+        return low + draw.choice((0, 1, 10 ** 6))
+    if low is None:
+        return high - draw.choice((0, 1, 10 ** 6))
+    return draw.choice((low, high, draw.randint(low, high)))
+
+
+def drawn_times(draw, count, bounds):
+    """A schedule that keeps the bounds, drawn point by point; the sums of shortest chains are found anew for each."""
+    times = [None] * count
+    order = draw.sample(range(count), count)
+    first = order[0]
+    times[first] = drawn_between(draw, None, None)
+    for x in order[1:]:
+        sums = shortest_sums(count, bounds + pinned(times))
+        low = None if sums[x][first] is None else times[first] - sums[x][first]
+        high = None if sums[first][x] is None else times[first] + sums[first][x]
+        times[x] = drawn_between(draw, low, high)
+    return tuple(times)
 
 
 def seen_table(schedules):

@@ -1,6 +1,6 @@
 """The form of the code (LANGUAGE.md), and of promise 2 that nothing hangs on a clock, chance or files.
 
-Only some of the rules are looked for here (L2, L4 to L8, L10, L12, L14 to L17, L20, L25, and of most of them
+Only some of the rules are looked for here (L2, L4 to L8, L10, L12, L14 to L18, L20, L25, L26, and of most of them
 a part alone); a module that passes may still break others, which a reader must see.
 """
 
@@ -38,6 +38,9 @@ NAMES_NOT_USED = set(
     "register mro elements open input version_info with_traceback add_note format format_map attrgetter breakpoint "
     "builtins compile copyright credits delattr dir eval exec exit gc getattr globals hasattr help id importlib "
     "license locals methodcaller os quit setattr super sys type vars".split()
+)
+VALUES_NOT_USED = set(
+    "items keys values pop update append clear extend insert remove reverse setdefault sort args encode format".split()
 )
 WORDS_NOT_USED = re.compile(
     r"\b(type|typing|typing_extensions|enum|Enum|IntEnum|StrEnum|Flag|IntFlag|Generic|Protocol|ABC|ABCMeta|namedtuple"
@@ -149,13 +152,39 @@ def methods_of(tree):
     return methods
 
 
+def values_of(tree):
+    """The names by which objects keep something."""
+    return {node.attr for node in ast.walk(tree) if isinstance(node, ast.Attribute) and isinstance(node.ctx, ast.Store)}
+
+
+def value_faults(trees):
+    """Names of values that may not be such, or that are a method in some class of the package."""
+    methods = set().union(*[methods_of(tree) for tree in trees])
+    values = set().union(*[values_of(tree) for tree in trees])
+    both = [("L18", name) for name in sorted(values & methods)]
+    return both + [("L26", name) for name in sorted(values & VALUES_NOT_USED)]
+
+
+def local_faults(tree):
+    """Parameters and locals that are called like a class or an import of the file."""
+    taken = {part.name for part in tree.body if isinstance(part, ast.ClassDef)}
+    taken.update(name for names in drawn_from(tree).values() for name in names)
+    faults = []
+    for node in ast.walk(tree):
+        if isinstance(node, ast.arg) and node.arg in taken:
+            faults.append(("L15", node.lineno))
+        if isinstance(node, ast.Name) and isinstance(node.ctx, ast.Store) and node.id in taken:
+            faults.append(("L15", node.lineno))
+    return faults
+
+
 def faults_of(text, own_methods=frozenset()):
     """The rules that a module's text breaks, each with the line."""
     tree = ast.parse(text)
     faults = text_faults(text)
     for node in ast.walk(tree):
         faults += node_faults(node)
-    return faults + method_faults(tree, methods_of(tree) | own_methods)
+    return faults + local_faults(tree) + method_faults(tree, methods_of(tree) | own_methods)
 
 
 def drawn_from(tree):
@@ -210,6 +239,17 @@ class Form(unittest.TestCase):
         trees = {path.stem: ast.parse(path.read_text(encoding="utf-8")) for path in package_files()}
         self.assertEqual(import_faults(trees), [])
 
+    def test_no_name_is_a_method_and_a_value(self):
+        self.assertEqual(value_faults([ast.parse(path.read_text(encoding="utf-8")) for path in package_files()]), [])
+
+    def test_broken_values_are_seen(self):
+        one = ast.parse("class A:\n    def room(self):\n        self.times = 1\n")
+        two = ast.parse("class B:\n    def __init__(self):\n        self.room = 1\n")
+        three = ast.parse("class C:\n    def __init__(self):\n        self.items = 1\n")
+        self.assertEqual(value_faults([one]), [])
+        self.assertEqual(value_faults([one, two]), [("L18", "room")])
+        self.assertEqual(value_faults([one, three]), [("L26", "items")])
+
     def test_broken_imports_are_seen(self):
         one = ast.parse("from waithouse.two import g\ndef f():\n    return g()\n")
         two = ast.parse("from waithouse.one import f\ndef g():\n    return f()\n")
@@ -240,6 +280,8 @@ class Form(unittest.TestCase):
             ("def hidden(_x):\n    return _x\n", "L12"),
             ("X = '\u00e9'\n", "L14"),
             ("def f(id):\n    return 1\n", "L15"),
+            ("from waithouse.rooms import room\ndef f(room):\n    return 1\n", "L15"),
+            ("from waithouse.rooms import room\ndef f():\n    room = 1\n    return room\n", "L15"),
             ("# the type of x\n", "L17"),
             ("def f(x, y):\n    return x is y\n", "L20"),
             ("def f(x):\n    return x.sort()\n", "L25"),

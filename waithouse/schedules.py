@@ -13,9 +13,11 @@ def keeps(times, bound):
 
 def keeps_gap(times, gap):
     """Whether the schedule keeps the gap; an end None asks nothing."""
-    time = time_from(times, gap[0], gap[1])
-    low = gap[2]
-    high = gap[3]
+    return lies_between(time_from(times, gap[0], gap[1]), gap[2], gap[3])
+
+
+def lies_between(time, low, high):
+    """Whether the time is not below low and not above high; an end None asks nothing."""
     return (low is None or low <= time) and (high is None or time <= high)
 
 
