@@ -44,6 +44,27 @@ def goes(bounds, setting):
     return shortest_sums(len(setting), bounds + pinned(setting)) is not None
 
 
+def with_time(setting, x, time):
+    return [time if point == x else setting[point] for point in range(len(setting))]
+
+
+def grounded(bounds, setting, now):
+    """The bounds of all courses, with one point more, numbered as the count, that stands for the time 0."""
+    ground = len(setting)
+    found = list(bounds)
+    for x, time in enumerate(setting):
+        if time is None:
+            found.append((x, ground, -now))
+        else:
+            found += [(ground, x, time), (x, ground, -time)]
+    return found
+
+
+def has_course(bounds, setting, now):
+    """Whether some schedule keeps the bounds, has the setting's times, and has no open point below now."""
+    return shortest_sums(len(setting) + 1, grounded(bounds, setting, now)) is not None
+
+
 def drawn_between(draw, low, high):
     """A time from low to high, where None sets no end: an end itself, a time by it, or any between."""
     if low is None and high is None:
@@ -67,6 +88,22 @@ def drawn_times(draw, count, bounds):
         high = None if sums[first][x] is None else times[first] + sums[first][x]
         times[x] = drawn_between(draw, low, high)
     return tuple(times)
+
+
+def drawn_settings(seed):
+    """Tuples (bounds, times, setting) of 1 to 8 points: a schedule that keeps the bounds, and a setting of its times.
+
+    It has the times of no point up to all: half of the lists those that come first, else any.
+    """
+    draw = random.Random(seed)
+    found = []
+    for count, bounds in KEPT[::2]:
+        times = drawn_times(draw, count, bounds)
+        for much in sorted({0, 1, 2, count // 2, count - 1, count} & set(range(count + 1))):
+            order = sorted(range(count), key=lambda x: times[x])
+            fixed = draw.choice((order[:much], draw.sample(range(count), much)))
+            found.append((bounds, times, [times[x] if x in fixed else None for x in range(count)]))
+    return found
 
 
 def seen_table(schedules):
@@ -164,6 +201,30 @@ class Case(unittest.TestCase):
         for thing in handed:
             spoil(thing)
         self.assertEqual(told, wanted)
+
+    def assert_links(self, count, bounds, places):
+        """Places in range, each but the first beginning where the one ahead ends; tells their bounds."""
+        self.assertIs(type(places), list)
+        for place in places:
+            self.assert_whole(place)
+            self.assertIn(place, range(len(bounds)))
+        found = [bounds[place] for place in places]
+        for ahead, behind in zip(found, found[1:]):
+            self.assertEqual(ahead[1], behind[0])
+        return found
+
+    def assert_ring(self, count, bounds, places):
+        found = self.assert_links(count, bounds, places)
+        self.assertIn(len(places), range(1, count + 1))
+        self.assertEqual(found[0][0], found[-1][1])
+        self.assertEqual(len({bound[0] for bound in found}), len(found))
+        self.assertLess(sum(bound[2] for bound in found), 0)
+
+    def assert_chain(self, count, bounds, a, b, places, entry):
+        found = self.assert_links(count, bounds, places)
+        self.assertIn(len(places), range(1, count))
+        self.assertEqual((found[0][0], found[-1][1]), (a, b))
+        self.assertEqual(sum(bound[2] for bound in found), entry)
 
 
 def spoil(thing):

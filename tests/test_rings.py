@@ -7,33 +7,7 @@ from samples import BIG, DRAWN, KEPT, LINE, LINE_SUM, SMALL, TORN, Case, asked, 
 from waithouse.rings import chain, ring
 
 
-class PlacesCase(Case):
-    def assert_links(self, count, bounds, places):
-        """Places in range, each but the first beginning where the one ahead ends; tells their bounds."""
-        self.assertIs(type(places), list)
-        for place in places:
-            self.assert_whole(place)
-            self.assertIn(place, range(len(bounds)))
-        found = [bounds[place] for place in places]
-        for ahead, behind in zip(found, found[1:]):
-            self.assertEqual(ahead[1], behind[0])
-        return found
-
-    def assert_ring(self, count, bounds, places):
-        found = self.assert_links(count, bounds, places)
-        self.assertIn(len(places), range(1, count + 1))
-        self.assertEqual(found[0][0], found[-1][1])
-        self.assertEqual(len({bound[0] for bound in found}), len(found))
-        self.assertLess(sum(bound[2] for bound in found), 0)
-
-    def assert_chain(self, count, bounds, a, b, places, entry):
-        found = self.assert_links(count, bounds, places)
-        self.assertIn(len(places), range(1, count))
-        self.assertEqual((found[0][0], found[-1][1]), (a, b))
-        self.assertEqual(sum(bound[2] for bound in found), entry)
-
-
-class Ring(PlacesCase):
+class Ring(Case):
     def test_none_where_a_schedule_keeps_all(self):
         self.assertIs(ring(1, []), None)
         self.assertIs(ring(8, []), None)
@@ -124,7 +98,7 @@ class Ring(PlacesCase):
             self.assert_stays(ring, count, list(bounds))
 
 
-class Chain(PlacesCase):
+class Chain(Case):
     def assert_chains(self, count, bounds):
         """Each chain of a list, against the sums of shortest chains."""
         table = shortest_sums(count, bounds)

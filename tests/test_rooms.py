@@ -1,32 +1,13 @@
 """Promise 18, and promise 2 as far as it speaks of it: waithouse/rooms.py."""
 
 import itertools
-import random
 
-from samples import BIG, KEPT, LINE, LINE_SUM, MOST, SMALL, WINDOW, Case, asked, drawn_times, goes, keeps_all
+from samples import BIG, LINE, LINE_SUM, MOST, SMALL, WINDOW, Case, asked, drawn_settings, goes, keeps_all, with_time
 from waithouse.rooms import filling, room
 from waithouse.tables import lies, table_of, wide
 
 TABLE = [[0, 8, 12], [-3, 0, 4], [-4, -1, 0]]
-
-
-def drawn_settings():
-    """Tuples (bounds, setting) of 1 to 8 points: times of a schedule that keeps the bounds, at no point up to all."""
-    draw = random.Random(18)
-    found = []
-    for count, bounds in KEPT[::2]:
-        times = drawn_times(draw, count, bounds)
-        for much in sorted({0, 1, 2, count // 2, count - 1, count} & set(range(count + 1))):
-            fixed = draw.sample(range(count), much)
-            found.append((bounds, [times[x] if x in fixed else None for x in range(count)]))
-    return found
-
-
-SETTINGS = drawn_settings()
-
-
-def with_time(setting, x, time):
-    return [time if point == x else setting[point] for point in range(len(setting))]
+SETTINGS = [(bounds, setting) for bounds, times, setting in drawn_settings(18)]
 
 
 class Rooms(Case):

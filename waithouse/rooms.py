@@ -9,14 +9,27 @@ def room(table, setting, x):
     # A table tells all that lies between two points, and the times that are set go together: so each of them alone
     # tells how soon and how late x may be, and no two of them together tell more. Of a point that is set, its own
     # time tells both ends.
-    lows = [setting[p] - table[x][p] for p in points_set(setting) if table[x][p] is not None]
-    highs = [setting[p] + table[p][x] for p in points_set(setting) if table[p][x] is not None]
-    return (max(lows, default=None), min(highs, default=None))
+    return (least_time(table, setting, x), greatest_time(table, setting, x))
+
+
+def least_time(table, setting, x):
+    """The greatest of the least times that the setting's times, each alone, leave to x; None where none tells one."""
+    return max([setting[p] - table[x][p] for p in points_set(setting) if table[x][p] is not None], default=None)
+
+
+def greatest_time(table, setting, x):
+    """The least of the greatest times that the setting's times, each alone, leave to x; None where none tells one."""
+    return min([setting[p] + table[p][x] for p in points_set(setting) if table[p][x] is not None], default=None)
 
 
 def points_set(setting):
     """The points of a setting that are not open."""
     return [x for x in range(len(setting)) if setting[x] is not None]
+
+
+def points_open(setting):
+    """The points of a setting that are open."""
+    return [x for x in range(len(setting)) if setting[x] is None]
 
 
 def filling(table, setting):
